@@ -1,0 +1,1 @@
+"""Formulas drawn as signs on a floor, and read from the drawing alone."""
