@@ -1,6 +1,12 @@
-"""Formulas for the tests: short makers, one of each kind, and a seeded maker of mixed ones."""
+"""For the tests: formulas and sketches, seeded makers of mixed ones, and what a sketch must be, sign by sign."""
 
 import random
+import unittest
+
+from inkform.grown import Grid, Held, Marked
+from inkform.sketches import Chain, Led, Over, Root, Sketch, Word
+
+FAR = 10 ** 9
 
 
 def name(word):
@@ -68,6 +74,17 @@ LEVELS = {
     "even": 0, "sum": 1, "times": 2, "over": 3, "root": 3, "marked": 3,
     "name": 4, "number": 4, "held": 4, "table": 4,
 }
+
+
+def parts(f):
+    """The parts of a formula in their order, told without asking the program."""
+    if f[0] in ("name", "number"):
+        return []
+    if f[0] in ("even", "sum", "times"):
+        return list(f[1])
+    if f[0] == "table":
+        return [cell for band in f[1] for cell in band]
+    return [part for part in f[1:] if part is not None]
 
 
 def nested_held(depth):
@@ -145,3 +162,270 @@ class Maker:
 def mixed(seed, how_many, depth=12, count=300):
     maker = Maker(seed)
     return [maker.make(depth, count) for step in range(how_many)]
+
+
+class Floor:
+    """What a sketch must be, told sign by sign at places around the base row's begin."""
+
+    def __init__(self, wide, up, down, spots):
+        self.wide = wide
+        self.up = up
+        self.down = down
+        self.spots = spots
+        self.signs = {}
+        for floor, low, right in spots:
+            for place, sign in floor.signs.items():
+                self.signs[place[0] + low, place[1] + right] = sign
+
+    def put(self, low, right, text):
+        for step, sign in enumerate(text):
+            self.signs[low, right + step] = sign
+
+    def row(self, k):
+        return "".join(self.signs.get((k, column), " ") for column in range(self.wide))
+
+
+def both(plan):
+    """The sketch and the floor of a plan: a tuple of a class's name and what it is made of."""
+    return MAKERS[plan[0]](*plan[1:])
+
+
+def both_sketch(wide, up, down):
+    return Sketch(wide, up, down), Floor(wide, up, down, [])
+
+
+def both_word(word):
+    floor = Floor(len(word), 0, 0, [])
+    floor.put(0, 0, word)
+    return Word(word), floor
+
+
+def both_chain(plans, signs):
+    made = [both(plan) for plan in plans]
+    spots, right = [], 0
+    for sketch, floor in made:
+        spots.append((floor, 0, right))
+        right += floor.wide + 3
+    whole = Floor(right - 3, max(floor.up for s, floor in made), max(floor.down for s, floor in made), spots)
+    for sign, spot in zip(signs, spots[1:]):
+        whole.put(0, spot[2] - 2, sign)
+    return Chain([sketch for sketch, floor in made], signs), whole
+
+
+def both_over(above_plan, beneath_plan):
+    above, high = both(above_plan)
+    beneath, deep = both(beneath_plan)
+    wide = max(high.wide, deep.wide) + 2
+    spots = [(high, -(high.down + 1), (wide - high.wide) // 2), (deep, deep.up + 1, (wide - deep.wide) // 2)]
+    floor = Floor(wide, high.up + high.down + 1, deep.up + deep.down + 1, spots)
+    floor.put(0, 0, "-" * wide)
+    return Over(above, beneath), floor
+
+
+def both_root(plan):
+    inner, within = both(plan)
+    floor = Floor(within.wide + 2, within.up + 1, within.down, [(within, 0, 2)])
+    for k in range(-within.up, within.down + 1):
+        floor.put(k, 1, "|")
+    floor.put(0, 0, "V")
+    floor.put(-within.up - 1, 2, "_" * within.wide)
+    return Root(inner), floor
+
+
+def both_led(sign, plan):
+    inner, within = both(plan)
+    floor = Floor(within.wide + 2, within.up, within.down, [(within, 0, 2)])
+    floor.put(0, 0, sign)
+    return Led(sign, inner), floor
+
+
+def both_marked(item_plan, raised_plan, lowered_plan):
+    item, main = both(item_plan)
+    raised, high = (None, None) if raised_plan is None else both(raised_plan)
+    lowered, deep = (None, None) if lowered_plan is None else both(lowered_plan)
+    spots, more, up, down = [(main, 0, 0)], 0, main.up, main.down
+    if high is not None:
+        spots.append((high, -(main.up + 1 + high.down), main.wide))
+        more, up = high.wide, up + high.up + high.down + 1
+    if deep is not None:
+        spots.append((deep, main.down + 1 + deep.up, main.wide))
+        more, down = max(more, deep.wide), down + deep.up + deep.down + 1
+    return Marked(item, raised, lowered), Floor(main.wide + more, up, down, spots)
+
+
+def both_held(plan):
+    inner, within = both(plan)
+    floor = Floor(within.wide + 2, within.up, within.down, [(within, 0, 1)])
+    for k in range(-within.up, within.down + 1):
+        edges = "()" if k == 0 else "/\\" if k < 0 else "\\/"
+        floor.put(k, 0, edges[0])
+        floor.put(k, within.wide + 1, edges[1])
+    return Held(inner), floor
+
+
+def both_grid(plans):
+    made = [[both(plan) for plan in band] for band in plans]
+    ends, right = [], 1
+    for column in range(len(made[0])):
+        right += max(band[column][1].wide for band in made)
+        ends.append(right)
+        right += 2
+    wide = ends[-1] + 1
+    places, high = [], 0
+    for band in made:
+        base = high + max(floor.up for sketch, floor in band)
+        places += [(floor, base, end - floor.wide) for (sketch, floor), end in zip(band, ends)]
+        high = base + max(floor.down for sketch, floor in band) + 2
+    high -= 1
+    up = (high - 1) // 2
+    whole = Floor(wide, up, high - 1 - up, [(floor, base - up, right) for floor, base, right in places])
+    for k in range(-up, high - up):
+        whole.put(k, 0, "[" if k == 0 else "|")
+        whole.put(k, wide - 1, "]" if k == 0 else "|")
+    return Grid([[sketch for sketch, floor in band] for band in made]), whole
+
+
+MAKERS = {
+    "sketch": both_sketch, "word": both_word, "chain": both_chain, "over": both_over, "root": both_root, "led": both_led,
+    "marked": both_marked, "held": both_held, "grid": both_grid,
+}
+
+
+class PlanMaker:
+    """Makes plans of these kinds from a seed: at most so deep, and of about so many sketches at most."""
+
+    def __init__(self, seed, kinds):
+        self.chance = random.Random(seed)
+        self.kinds = kinds
+        self.left = 0
+
+    def make(self, depth, count):
+        self.left = count - 1
+        return self.part(depth)
+
+    def part(self, depth):
+        kind = self.chance.choice(self.kinds)
+        if depth == 1 or self.left < 4 or kind in ("sketch", "word"):
+            return self.leaf()
+        return self.nest(kind, depth - 1)
+
+    def leaf(self):
+        chance = self.chance
+        if chance.random() < 0.4:
+            return ("sketch", chance.randint(0, 4), chance.randint(0, 3), chance.randint(0, 3))
+        return ("word", "".join(chance.choices("ab1|/\\()[]", k=chance.randint(1, 5))))
+
+    def several(self, how_many, depth):
+        self.left -= how_many
+        return [self.part(depth) for step in range(how_many)]
+
+    def nest(self, kind, depth):
+        chance = self.chance
+        if kind == "chain":
+            how_many = chance.randint(2, 4)
+            return ("chain", self.several(how_many, depth), "".join(chance.choices("=+-*<", k=how_many - 1)))
+        if kind == "marked":
+            marks = chance.choice(((True, True), (True, False), (False, True)))
+            return ("marked",) + tuple(self.several(1, depth)[0] if there else None for there in (True,) + marks)
+        if kind == "grid":
+            wide = chance.randint(1, min(3, self.left))
+            high = chance.randint(1, min(3, self.left // wide))
+            self.left -= wide * high
+            return ("grid", [[self.part(depth) for step in range(wide)] for band in range(high)])
+        if kind == "led":
+            return ("led", chance.choice("=+-*"), self.several(1, depth)[0])
+        return (kind,) + tuple(self.several(2 if kind == "over" else 1, depth))
+
+
+def plan_count(plan):
+    return 1 + sum(plan_count(inner) for inner in inner_plans(plan))
+
+
+def plan_depth(plan):
+    return 1 + max([plan_depth(inner) for inner in inner_plans(plan)], default=0)
+
+
+def inner_plans(plan):
+    found = []
+    for value in plan[1:]:
+        if isinstance(value, tuple):
+            found.append(value)
+        elif isinstance(value, list):
+            for each in value:
+                found += each if isinstance(each, list) else [each]
+    return found
+
+
+def plan_of(f):
+    """The plan of a formula's sketch, told without asking the program."""
+    kind = f[0]
+    if kind in ("name", "number"):
+        return ("word", str(f[1]))
+    if kind in ("even", "sum", "times"):
+        signs = f[2] if kind == "sum" else {"even": "=", "times": "*"}[kind] * (len(f[1]) - 1)
+        return ("chain", [plan_of(part) for part in f[1]], signs)
+    if kind == "table":
+        return ("grid", [[plan_of(cell) for cell in band] for band in f[1]])
+    return (kind,) + tuple(None if part is None else plan_of(part) for part in f[1:])
+
+
+class SketchTest(unittest.TestCase):
+    def is_drawn(self, sketch, up, *rows):
+        """The sketch has these rows, so many of them above the base row."""
+        rows = list(rows)
+        down = len(rows) - 1 - up
+        self.assertEqual((sketch.wide, sketch.up, sketch.down), (len(rows[0]), up, down))
+        self.assertEqual(sketch.rows(), rows)
+        self.assertIs(type(sketch.rows()), list)
+        self.assertEqual([sketch.row(k) for k in range(-up, down + 1)], rows)
+        for k in (-up - 1, down + 1, -up - 2, down + 2, -up - 100, down + 100, -FAR, FAR):
+            self.assertEqual(sketch.row(k), " " * sketch.wide, k)
+        self.assertIsInstance(sketch, Sketch)
+
+    def has_spots(self, sketch, *spots):
+        told = sketch.spots()
+        self.assertIs(type(told), list)
+        self.assertEqual(len(told), len(spots))
+        for mine, spot in zip(told, spots):
+            self.assertIs(type(mine), tuple)
+            self.assertIs(mine[0], spot[0])
+            self.assertEqual(mine[1:], spot[1:])
+
+    def is_like(self, sketch, floor):
+        self.assertEqual((sketch.wide, sketch.up, sketch.down), (floor.wide, floor.up, floor.down))
+        self.assertEqual(sketch.rows(), [floor.row(k) for k in range(-floor.up, floor.down + 1)])
+        for k in range(-floor.up - 3, floor.down + 4):
+            self.assertEqual(sketch.row(k), floor.row(k))
+        for k in (-FAR, FAR):
+            self.assertEqual(sketch.row(k), " " * floor.wide)
+        self.is_spotted(sketch, floor)
+
+    def is_spotted(self, sketch, floor):
+        """Each sketch stands where its spot tells, as large as it is and, sign by sign, as itself."""
+        told = [(inner.wide, inner.up, inner.down, low, right) for inner, low, right in sketch.spots()]
+        self.assertEqual(told, [(inner.wide, inner.up, inner.down, low, right) for inner, low, right in floor.spots])
+        for (inner, low, right), spot in zip(sketch.spots(), floor.spots):
+            for k in range(-inner.up, inner.down + 1):
+                self.assertEqual(sketch.row(low + k)[right:right + inner.wide], inner.row(k))
+            self.is_spotted(inner, spot[0])
+
+    def lists_are_the_askers_own(self, sketch):
+        """What is done to told rows and spots changes nothing, and asking again changes nothing told before."""
+        rows, spots = sketch.rows(), sketch.spots()
+        kept_rows, kept_spots = list(rows), list(spots)
+        self.assertIsNot(rows, sketch.rows())
+        self.assertIsNot(spots, sketch.spots())
+        for k in range(-sketch.up - 1, sketch.down + 2):
+            sketch.row(k)
+        sketch.rows().clear()
+        sketch.spots().clear()
+        Over(sketch, sketch).rows()
+        Grid([[sketch, sketch]]).spots()
+        self.assertEqual(rows, kept_rows)
+        self.assertEqual(spots, kept_spots)
+        rows[0] = "?"
+        rows.append("!")
+        spots.insert(0, (Word("z"), 5, 5))
+        self.assertEqual(sketch.rows(), kept_rows)
+        self.assertEqual(sketch.row(-sketch.up), kept_rows[0])
+        self.has_spots(sketch, *kept_spots)

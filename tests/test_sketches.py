@@ -1,129 +1,9 @@
-import copy
-import random
 import unittest
 
 from inkform.sketches import Chain, Led, Over, Root, Sketch, Word
+from tests.samples import PlanMaker, SketchTest, both, plan_count, plan_depth
 
-FAR = 10 ** 9
-
-
-class Floor:
-    """What a sketch must be, told sign by sign at places around the base row's begin."""
-
-    def __init__(self, wide, up, down, spots):
-        self.wide = wide
-        self.up = up
-        self.down = down
-        self.signs = {}
-        for floor, low, right in spots:
-            for place, sign in floor.signs.items():
-                self.signs[place[0] + low, place[1] + right] = sign
-
-    def put(self, low, right, text):
-        for step, sign in enumerate(text):
-            self.signs[low, right + step] = sign
-
-    def row(self, k):
-        return "".join(self.signs.get((k, column), " ") for column in range(self.wide))
-
-
-def both(plan):
-    """The sketch and the floor of a plan: a tuple of a class's name and what it is made of."""
-    return MAKERS[plan[0]](*plan[1:])
-
-
-def both_sketch(wide, up, down):
-    return Sketch(wide, up, down), Floor(wide, up, down, [])
-
-
-def both_word(word):
-    floor = Floor(len(word), 0, 0, [])
-    floor.put(0, 0, word)
-    return Word(word), floor
-
-
-def both_chain(plans, signs):
-    made = [both(plan) for plan in plans]
-    spots, right = [], 0
-    for sketch, floor in made:
-        spots.append((floor, 0, right))
-        right += floor.wide + 3
-    whole = Floor(right - 3, max(floor.up for s, floor in made), max(floor.down for s, floor in made), spots)
-    for sign, spot in zip(signs, spots[1:]):
-        whole.put(0, spot[2] - 2, sign)
-    return Chain([sketch for sketch, floor in made], signs), whole
-
-
-def both_over(above_plan, beneath_plan):
-    above, high = both(above_plan)
-    beneath, deep = both(beneath_plan)
-    wide = max(high.wide, deep.wide) + 2
-    spots = [(high, -(high.down + 1), (wide - high.wide) // 2), (deep, deep.up + 1, (wide - deep.wide) // 2)]
-    floor = Floor(wide, high.up + high.down + 1, deep.up + deep.down + 1, spots)
-    floor.put(0, 0, "-" * wide)
-    return Over(above, beneath), floor
-
-
-def both_root(plan):
-    inner, within = both(plan)
-    floor = Floor(within.wide + 2, within.up + 1, within.down, [(within, 0, 2)])
-    for k in range(-within.up, within.down + 1):
-        floor.put(k, 1, "|")
-    floor.put(0, 0, "V")
-    floor.put(-within.up - 1, 2, "_" * within.wide)
-    return Root(inner), floor
-
-
-def both_led(sign, plan):
-    inner, within = both(plan)
-    floor = Floor(within.wide + 2, within.up, within.down, [(within, 0, 2)])
-    floor.put(0, 0, sign)
-    return Led(sign, inner), floor
-
-
-MAKERS = {
-    "sketch": both_sketch, "word": both_word, "chain": both_chain, "over": both_over, "root": both_root, "led": both_led,
-}
-
-
-def random_plan(chance, depth):
-    kind = chance.choice(("sketch", "word", "chain", "over", "root", "led")) if depth > 1 else chance.choice(("sketch", "word"))
-    if kind == "sketch":
-        return ("sketch", chance.randint(0, 4), chance.randint(0, 3), chance.randint(0, 3))
-    if kind == "word":
-        return ("word", "".join(chance.choices("ab1|/\\()[]", k=chance.randint(1, 5))))
-    if kind == "chain":
-        how_many = chance.randint(2, 4)
-        signs = "".join(chance.choices("=+-*<", k=how_many - 1))
-        return ("chain", [random_plan(chance, depth - 1) for step in range(how_many)], signs)
-    if kind == "over":
-        return ("over", random_plan(chance, depth - 1), random_plan(chance, depth - 1))
-    if kind == "root":
-        return ("root", random_plan(chance, depth - 1))
-    return ("led", chance.choice("=+-*"), random_plan(chance, depth - 1))
-
-
-class SketchTest(unittest.TestCase):
-    def is_drawn(self, sketch, up, *rows):
-        """The sketch has these rows, so many of them above the base row."""
-        rows = list(rows)
-        down = len(rows) - 1 - up
-        self.assertEqual((sketch.wide, sketch.up, sketch.down), (len(rows[0]), up, down))
-        self.assertEqual(sketch.rows(), rows)
-        self.assertIs(type(sketch.rows()), list)
-        self.assertEqual([sketch.row(k) for k in range(-up, down + 1)], rows)
-        for k in (-up - 1, down + 1, -up - 2, down + 2, -up - 100, down + 100, -FAR, FAR):
-            self.assertEqual(sketch.row(k), " " * sketch.wide, k)
-        self.assertIsInstance(sketch, Sketch)
-
-    def has_spots(self, sketch, *spots):
-        told = sketch.spots()
-        self.assertIs(type(told), list)
-        self.assertEqual(len(told), len(spots))
-        for mine, spot in zip(told, spots):
-            self.assertIs(type(mine), tuple)
-            self.assertIs(mine[0], spot[0])
-            self.assertEqual(mine[1:], spot[1:])
+KINDS = ("sketch", "word", "chain", "over", "root", "led")
 
 
 class Plain(SketchTest):
@@ -322,22 +202,6 @@ class Leds(SketchTest):
 
 
 class Nests(SketchTest):
-    def is_like(self, sketch, floor):
-        self.assertEqual((sketch.wide, sketch.up, sketch.down), (floor.wide, floor.up, floor.down))
-        self.assertEqual(sketch.rows(), [floor.row(k) for k in range(-floor.up, floor.down + 1)])
-        for k in range(-floor.up - 3, floor.down + 4):
-            self.assertEqual(sketch.row(k), floor.row(k))
-        for k in (-FAR, FAR):
-            self.assertEqual(sketch.row(k), " " * floor.wide)
-        self.is_spotted(sketch)
-
-    def is_spotted(self, sketch):
-        """Each sketch stands, sign by sign, where its spot tells."""
-        for inner, low, right in sketch.spots():
-            for k in range(-inner.up, inner.down + 1):
-                self.assertEqual(sketch.row(low + k)[right:right + inner.wide], inner.row(k))
-            self.is_spotted(inner)
-
     def test_several_kinds(self):
         plan = ("led", "=", ("chain", [
             ("root", ("over", ("chain", [("word", "a"), ("word", "bc")], "+"), ("word", "d"))),
@@ -356,9 +220,9 @@ class Nests(SketchTest):
         )
 
     def test_random_nests(self):
-        chance = random.Random(7)
+        maker = PlanMaker(7, KINDS)
         for step in range(300):
-            sketch, floor = both(random_plan(chance, chance.randint(2, 5)))
+            sketch, floor = both(maker.make(2 + step % 4, 60))
             self.is_like(sketch, floor)
 
     def test_as_large_as_may_be(self):
@@ -402,62 +266,12 @@ class Nests(SketchTest):
                       "       a       ", "      ---      ", "       a       ")
 
 
-def plan_count(plan):
-    return 1 + sum(plan_count(inner) for inner in inner_plans(plan))
-
-
-def plan_depth(plan):
-    return 1 + max([plan_depth(inner) for inner in inner_plans(plan)], default=0)
-
-
-def inner_plans(plan):
-    found = []
-    for value in plan[1:]:
-        if isinstance(value, tuple):
-            found.append(value)
-        elif isinstance(value, list):
-            found += value
-    return found
-
-
 class ToldLists(SketchTest):
-    def some(self):
+    def test_they_are_the_askers_own(self):
         word = Word("ab")
         over = Over(word, Word("c"))
-        return (Sketch(2, 1, 1), word, Chain([word, over], "+"), over, Root(over), Led("-", over))
-
-    def test_what_is_done_to_rows_changes_nothing(self):
-        for sketch in self.some():
-            first = sketch.rows()
-            kept = copy.copy(first)
-            self.assertIsNot(first, sketch.rows())
-            first[0] = "?"
-            first.append("!")
-            self.assertEqual(sketch.rows(), kept)
-            self.assertEqual(sketch.row(-sketch.up), kept[0])
-
-    def test_what_is_done_to_spots_changes_nothing(self):
-        for sketch in self.some():
-            first = sketch.spots()
-            kept = copy.copy(first)
-            rows = sketch.rows()
-            self.assertIsNot(first, sketch.spots())
-            first.clear()
-            first.append((Word("z"), 5, 5))
-            self.has_spots(sketch, *kept)
-            self.assertEqual(sketch.rows(), rows)
-
-    def test_asking_changes_nothing_told_before(self):
-        for sketch in self.some():
-            rows, spots = sketch.rows(), sketch.spots()
-            kept_rows, kept_spots = list(rows), list(spots)
-            for k in range(-3, 4):
-                sketch.row(k)
-            sketch.rows().clear()
-            sketch.spots().clear()
-            Over(sketch, sketch).rows()
-            self.assertEqual(rows, kept_rows)
-            self.assertEqual(spots, kept_spots)
+        for sketch in (Sketch(2, 1, 1), word, Chain([word, over], "+"), over, Root(over), Led("-", over)):
+            self.lists_are_the_askers_own(sketch)
 
 
 if __name__ == "__main__":
