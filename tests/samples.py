@@ -1,12 +1,16 @@
 """For the tests: formulas and sketches, seeded makers of mixed ones, and what a sketch must be, sign by sign."""
 
+import itertools
 import random
 import unittest
 
+from inkform import errors
 from inkform.grown import Grid, Held, Marked
 from inkform.sketches import Chain, Led, Over, Root, Sketch, Word
 
 FAR = 10 ** 9
+
+REFUSALS = ("NoLine", "NoPart", "NoDrawing", "TooNarrow", "NoFormula", "NoRow", "NoName", "NoDeed")
 
 
 def name(word):
@@ -87,6 +91,102 @@ def parts(f):
     return [part for part in f[1:] if part is not None]
 
 
+def again(f, some):
+    """The formula with these in the place of its parts, told without asking the program."""
+    if f[0] in ("name", "number"):
+        return f
+    if f[0] in ("even", "sum", "times"):
+        return (f[0], tuple(some)) + f[2:]
+    left = iter(some)
+    if f[0] == "table":
+        return table(*[tuple(next(left) for cell in band) for band in f[1]])
+    return (f[0],) + tuple(None if part is None else next(left) for part in f[1:])
+
+
+def asked_level(f, n):
+    return {"even": 1, "sum": 2, "times": 3}.get(f[0], 4 if f[0] == "marked" and n == 0 else 0)
+
+
+def fitted(f, n, g):
+    """What stands in the place n of f's parts when g is put there, told without asking the program."""
+    return held(g) if LEVELS[g[0]] < asked_level(f, n) else g
+
+
+def placed(f, path, g):
+    """The formula with g put in at a path that leads to a part, told without asking the program."""
+    if path == ():
+        return g
+    some = parts(f)
+    n = path[0]
+    some[n] = fitted(f, n, g) if len(path) == 1 else placed(some[n], path[1:], g)
+    return again(f, some)
+
+
+def parts_by_path(f, path=()):
+    """All pairs of a path and the part there, each one ahead of its own parts."""
+    found = [(path, f)]
+    for n, part in enumerate(parts(f)):
+        found += parts_by_path(part, path + (n,))
+    return found
+
+
+def has_table(f):
+    return f[0] == "table" or any(has_table(part) for part in parts(f))
+
+
+def nests():
+    """Each kind in each place of each kind, in brackets where the place asks for them; no table in a table."""
+    outer = list(KINDS.values()) + [marked(A, B, None), marked(A, None, B), table((A, B), (C, X)), add("-+", A, B, C)]
+    found = []
+    for f in outer:
+        for n in range(len(parts(f))):
+            found += [placed(f, (n,), g) for g in KINDS.values() if not (f[0] == "table" and has_table(g))]
+    return found
+
+
+def of_each_shape(count):
+    """All formulas of this count (at most 5 or so) whose names and numbers are a and 1."""
+    if count == 1:
+        return [A, ONE]
+    found = []
+    for some in several_shapes(count - 1):
+        found += shapes_of(some)
+    return found
+
+
+def several_shapes(count):
+    """All tuples of formulas whose counts are this one together."""
+    found = [(f,) for f in of_each_shape(count)]
+    for first in range(1, count):
+        for f in of_each_shape(first):
+            found += [(f,) + rest for rest in several_shapes(count - first)]
+    return found
+
+
+def shapes_of(some):
+    """All formulas that have just these parts."""
+    least = min(LEVELS[f[0]] for f in some)
+    found = []
+    if len(some) == 1:
+        found += [root(*some), held(*some)]
+    if len(some) == 2:
+        found.append(over(*some))
+        if LEVELS[some[0][0]] == 4:
+            found += [marked(some[0], some[1], None), marked(some[0], None, some[1])]
+    if len(some) == 3 and LEVELS[some[0][0]] == 4:
+        found.append(marked(*some))
+    if len(some) >= 2:
+        found += [even(*some)] if least >= 1 else []
+        found += [times(*some)] if least >= 3 else []
+        if least >= 2:
+            found += [add("".join(signs), *some) for signs in itertools.product("+-", repeat=len(some) - 1)]
+    if not any(has_table(f) for f in some):
+        for wide in range(1, len(some) + 1):
+            if len(some) % wide == 0:
+                found.append(table(*[some[n:n + wide] for n in range(0, len(some), wide)]))
+    return found
+
+
 def nested_held(depth):
     f = A
     for step in range(depth - 1):
@@ -105,6 +205,42 @@ def of_count(count):
         if rest == 0:
             break
     return even(*parts)
+
+
+def at_the_bounds():
+    """Formulas of depth 12 by each kind, of count 300, of 80 parts and of nine bands and columns."""
+    deep = A
+    for step in range(11):
+        deep = (held, root, lambda f: over(B, f), lambda f: marked(B, None, f))[step % 4](deep)
+    inner = nested_held(11)
+    # Of these overs each part stands alone, so there are just as many of them as items in the drawing.
+    overs = [A] * 150
+    while len(overs) > 1:
+        overs = overs[2:] + [over(overs[0], overs[1])]
+    found = [deep, nested_held(12), of_count(300), held(overs[0])]
+    found += [table((inner, A)), table((A, inner)), table((A,), (inner,)), over(inner, A), over(A, inner), root(inner)]
+    found += [marked(inner, A, None), marked(A, inner, None), marked(A, None, inner), marked(inner, inner, inner)]
+    found += [even(A, add("+", B, times(C, nested_held(9)))), even(A, inner), add("-", inner, A), times(inner, inner)]
+    found += [even(*[A] * 80), add("+-" * 39 + "+", *[A] * 80), times(*[A] * 80), even(*[add("+", A, B)] * 80)]
+    found += [table((A,) * 9), table(*[(A,)] * 9), table(*[tuple([name("abcdefgh"), over(A, B)] + [A] * 7)] * 9)]
+    for nest in (root, lambda f: over(f, A), lambda f: over(A, f), lambda f: marked(A, f, None), lambda f: marked(A, f, B)):
+        f = A
+        for step in range(11):
+            f = nest(f)
+        found.append(f)
+    return found
+
+
+def beyond_the_bounds():
+    """What would be a formula, were it not a little too deep, too many or too long."""
+    deep = nested_held(12)
+    found = [held(deep), root(deep), over(A, deep), over(deep, A), marked(A, deep, None), marked(A, None, deep)]
+    found += [marked(deep, A, None), table((A, deep)), times(A, deep), even(A, add("+", B, nested_held(11)))]
+    found += [of_count(301), held(of_count(300)), over(A, of_count(299))]
+    found += [even(*[A] * 81), add("+" * 80, *[A] * 81), times(*[A] * 81)]
+    found += [table((A,) * 10), table(*[(A,)] * 10), table(*[(A,) * 10] * 10), table(*[(A,) * 9] * 10)]
+    found += [name("abcdefghi"), number(10 ** 9), table((table((A,)),)), table((A, held(root(table((A, B))))))]
+    return found
 
 
 class Maker:
@@ -367,6 +503,26 @@ def plan_of(f):
     if kind == "table":
         return ("grid", [[plan_of(cell) for cell in band] for band in f[1]])
     return (kind,) + tuple(None if part is None else plan_of(part) for part in f[1:])
+
+
+def floor_rows(plan):
+    """The rows of a plan as the tests themselves tell them."""
+    floor = both(plan)[1]
+    return [floor.row(k) for k in range(-floor.up, floor.down + 1)]
+
+
+def changed(rows, row, column, text):
+    """The rows with this text in the place of the one sign there."""
+    return rows[:row] + [rows[row][:column] + text + rows[row][column + 1:]] + rows[row + 1:]
+
+
+class InkTest(unittest.TestCase):
+    def refuses(self, word, call, *given):
+        """The call is refused with the error of this name, which none of the other names takes."""
+        with self.assertRaises(errors.InkError) as taken:
+            call(*given)
+        self.assertIsInstance(taken.exception, ValueError)
+        self.assertEqual([each for each in REFUSALS if isinstance(taken.exception, getattr(errors, each))], [word])
 
 
 class SketchTest(unittest.TestCase):

@@ -7,18 +7,14 @@ from inkform.grown import Grid, Held, Marked
 from inkform.lines import read_line
 from inkform.sketches import Chain, Over, Root, Sketch, Word
 from tests.samples import (
-    A, B, C, KINDS, ONE, TWO, X, SketchTest, add, both, even, held, marked, mixed, name, nested_held, number, of_count, over,
-    parts, plan_of, root, table, times,
+    A, B, C, KINDS, ONE, TWO, X, SketchTest, add, both, even, has_table, held, marked, mixed, name, nested_held, number,
+    of_count, over, parts, plan_of, root, table, times,
 )
 
 CLASSES = {
     "name": Word, "number": Word, "even": Chain, "sum": Chain, "times": Chain, "over": Over, "root": Root,
     "marked": Marked, "held": Held, "table": Grid,
 }
-
-
-def has_table(f):
-    return f[0] == "table" or any(has_table(part) for part in parts(f))
 
 
 def many():

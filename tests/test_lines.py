@@ -5,8 +5,8 @@ from inkform.errors import NoLine
 from inkform.formulas import is_formula
 from inkform.lines import read_line, written
 from tests.samples import (
-    A, B, C, KINDS, LEVELS, ONE, TWO, X,
-    add, even, held, marked, mixed, name, nested_held, number, of_count, over, root, table, times,
+    A, B, C, KINDS, LEVELS, ONE, TWO, X, add, at_the_bounds, beyond_the_bounds, even, held, marked, mixed, name, nests, number,
+    over, root, table, times,
 )
 
 # Formulas and their lines, written out by hand.
@@ -169,50 +169,22 @@ class Read(LineTest):
         )))
 
     def test_every_kind_in_every_place(self):
-        for kind, f in KINDS.items():
-            for made in (over(f, A), over(A, f), root(f), held(f), marked(X, f, None), marked(X, None, f), marked(X, f, f)):
-                self.reads(made)
-            if kind != "table":
-                self.reads(table((A, f), (f, B)))
-            for least, row in ((1, even), (2, lambda *parts: add("-", *parts)), (3, times)):
-                if LEVELS[kind] >= least:
-                    self.reads(row(f, A))
-                    self.reads(row(A, f))
-            if LEVELS[kind] == 4:
-                self.reads(marked(f, A, None))
-                self.reads(marked(f, None, A))
+        for f in nests():
+            self.reads(f)
 
     def test_mixed(self):
         for f in mixed(1, 300) + mixed(2, 500, 6, 40) + mixed(3, 300, 12, 60):
             self.reads(f)
 
     def test_at_the_bounds(self):
-        deep = A
-        for step in range(11):
-            deep = (held, root, lambda f: over(B, f), lambda f: marked(B, None, f))[step % 4](deep)
-        self.reads(deep)
         for begin, end in BRACKETS[:10]:
             most = 1 if begin[0] == "[" else 11
             self.assertIsNotNone(self.is_line_or_refused(begin * most + "a" + end * most))
-        self.reads(nested_held(12))
-        for near in (table((nested_held(11), A)), table((A, nested_held(11))), table((A,), (nested_held(11),)),
-                     over(nested_held(11), A), over(A, nested_held(11)), root(nested_held(11)),
-                     marked(nested_held(11), A, None), marked(A, nested_held(11), None), marked(A, None, nested_held(11)),
-                     even(A, add("+", B, times(C, nested_held(9))))):
-            self.reads(near)
-        self.reads(of_count(300))
-        for row in (even, lambda *parts: add("+-" * 39 + "+", *parts), times):
-            self.reads(row(*[A] * 80))
-        self.reads(table(*[tuple([name("abcdefgh"), over(A, B)] + [A] * 7)] * 9))
-        self.reads(even(*[add("+", A, B)] * 80))
+        for f in at_the_bounds():
+            self.reads(f)
 
     def test_beyond_the_bounds(self):
-        for beyond in (nested_held(13), root(nested_held(12)), over(A, nested_held(12)), over(nested_held(12), A),
-                       marked(A, nested_held(12), None), marked(A, None, nested_held(12)), table((A, nested_held(12))),
-                       times(A, nested_held(12)), even(A, add("+", B, nested_held(11))),
-                       of_count(301), held(of_count(300)), over(A, of_count(299)),
-                       even(*[A] * 81), add("+" * 80, *[A] * 81), times(*[A] * 81),
-                       table((A,) * 10), table(*[(A,)] * 10), table(*[(A,) * 10] * 10), table(*[(A,) * 9] * 10)):
+        for beyond in beyond_the_bounds():
             self.refuses(written(beyond))
 
     def test_longest_texts(self):

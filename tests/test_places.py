@@ -5,8 +5,8 @@ from inkform.drawing import drawn, sketch_of
 from inkform.lines import read_line
 from inkform.places import part_of, path_at, places_of
 from tests.samples import (
-    A, B, C, FAR, KINDS, ONE, TWO, X, add, even, held, marked, mixed, name, nested_held, number, of_count, over, parts, root,
-    table, times,
+    A, B, C, FAR, KINDS, ONE, TWO, X, add, even, held, marked, mixed, name, nested_held, number, of_count, over, parts,
+    parts_by_path, root, table, times,
 )
 
 # The signs that are a part's own, by its kind; a marked one has none.
@@ -14,14 +14,6 @@ OWN_SIGNS = {
     "name": "abcdefghijklmnopqrstuvwxyz", "number": "0123456789", "even": "=", "sum": "+-", "times": "*", "over": "-",
     "root": "V|_", "marked": "", "held": "()/\\", "table": "[]|",
 }
-
-
-def parts_by_path(f, path=()):
-    """All pairs of a path and the part there, each one ahead of its own parts."""
-    found = [(path, f)]
-    for n, part in enumerate(parts(f)):
-        found += parts_by_path(part, path + (n,))
-    return found
 
 
 def some():
